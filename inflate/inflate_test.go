@@ -354,6 +354,22 @@ func TestRepeatedLengths(t *testing.T) {
 	}
 }
 
+// P3.1: symbol 256 has the length 0, told by 0 itself, 16, 17 or 18.
+func TestNoEndOfBlock(t *testing.T) {
+	by := map[int]int{0: 2, 1: 3, 2: 3, 16: 3, 17: 3, 18: 2}
+	const c0, c1, c16, c17, c18 = "00", "100", "110", "111", "01"
+	// The symbols 0 and 1 have the length 1, which would be right without 256.
+	begin := func() *stream { return told().small(0, 0, by).code(c1).code(c1).code(c18).number(127, 7) }
+	for what, s := range map[string]*stream{
+		"0":  begin().code(c18).number(116-11, 7).code(c0),
+		"16": begin().code(c18).number(114-11, 7).code(c16).number(0, 2),
+		"17": begin().code(c18).number(114-11, 7).code(c17).number(0, 3),
+		"18": begin().code(c18).number(117-11, 7),
+	} {
+		wrong(t, "256 without a code, told by "+what, s.code(c0).code("01").bytes(), api.ErrForm)
+	}
+}
+
 // P3.1: 16 with none ahead, of whose further bits none is there.
 func TestRepeatedNothing(t *testing.T) {
 	s := told().small(0, 0, map[int]int{0: 1, 1: 2, 2: 3, 3: 4, 4: 5, 16: 6, 17: 6}).code("111110")

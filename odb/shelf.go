@@ -1,6 +1,7 @@
 package odb
 
 import (
+	"bytes"
 	"cmp"
 	"slices"
 	"strings"
@@ -124,5 +125,7 @@ func (p *packFile) get(row packidx.Row) (api.Object, api.Errno) {
 	if !there || p.found[place].Id != row.Id {
 		return api.Object{}, api.ErrSum
 	}
-	return p.found[place].Object, api.OK
+	// What has been read may be asked for again: each answer is memory of its own.
+	o := p.found[place].Object
+	return api.Object{Kind: o.Kind, Data: bytes.Clone(o.Data)}, api.OK
 }

@@ -6,6 +6,7 @@ import (
 	"strings"
 
 	"codicil/api"
+	"codicil/fault"
 	"codicil/filelist"
 	"codicil/reftable"
 	"codicil/txfile"
@@ -67,7 +68,7 @@ func (s *stack) refuses(edits []Edit, who api.Ident, message string) api.Errno {
 	_, errno := reftable.Write(nil, []api.Note{{Name: head, Index: 1, Who: who, Message: message}}, 1, 1)
 	for _, e := range edits {
 		_, its := reftable.Write([]api.Ref{e.Ref}, nil, 1, 1)
-		errno = least(errno, its)
+		errno = fault.Least(errno, its)
 	}
 	switch {
 	case errno != api.OK:
@@ -80,14 +81,6 @@ func (s *stack) refuses(edits []Edit, who api.Ident, message string) api.Errno {
 		return api.ErrClash
 	}
 	return api.OK
-}
-
-// least answers of two errors the one with the least number, OK being none.
-func least(a, b api.Errno) api.Errno {
-	if a == api.OK || b == api.OK {
-		return max(a, b)
-	}
-	return min(a, b)
 }
 
 // nameTwice answers whether two edits have one name.

@@ -13,6 +13,24 @@ import (
 	"codicil/names"
 )
 
+// Settled tells of each stage that isn't 0, wherever it stands.
+func TestSettled(t *testing.T) {
+	for _, l := range [][]api.Slot{nil, {}, slots("a"), slots("a", "b", "c")} {
+		if !index.Settled(l) {
+			t.Errorf("%d slots of the stage 0 aren't settled", len(l))
+		}
+		for i := range l {
+			for _, stage := range []int{-1, 1, 2, 3, 4} {
+				l[i].Stage = stage
+				if index.Settled(l) {
+					t.Errorf("slot %d has the stage %d, and all are settled", i, stage)
+				}
+			}
+			l[i].Stage = 0
+		}
+	}
+}
+
 // P17.1: Find of each slot, of other stages, and of paths that aren't there.
 func TestFind(t *testing.T) {
 	for _, l := range [][]api.Slot{some(), slots("a"), many(4096)} {

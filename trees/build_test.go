@@ -133,6 +133,28 @@ func TestBuildRefused(t *testing.T) {
 	wantRefused(t, "all stages, and a folder", []api.Slot{staged("a", 1), staged("a", 2), staged("a", 3), slot("a/b")}, api.ErrExists)
 }
 
+// FolderAmong tells of more slots than an index has, too, and of any stages.
+func TestFolderAmong(t *testing.T) {
+	var l []api.Slot
+	for i := range 2 * api.MaxEntries {
+		l = append(l, staged(fmt.Sprintf("m/%04d", i), i%4))
+	}
+	for what, x := range map[string]struct {
+		list   []api.Slot
+		wanted bool
+	}{
+		"no slots":       {nil, false},
+		"many":           {l, false},
+		"a file ahead":   {append([]api.Slot{staged("m", 1), staged("m", 3)}, l...), true},
+		"a file between": {append(slices.Clone(l), slot("n"), slot("n-"), staged("n/o/p", 2)), true},
+		"others":         {append([]api.Slot{staged("l", 1), slot("l-/m")}, l...), false},
+	} {
+		if is := trees.FolderAmong(x.list); is != x.wanted {
+			t.Errorf("FolderAmong, %s: %v", what, is)
+		}
+	}
+}
+
 // P18.1: slots that are not in form have index.Check's error, whatever else they have.
 func TestBuildNotInForm(t *testing.T) {
 	change := func(make func(l []api.Slot)) []api.Slot {

@@ -183,6 +183,9 @@ func TestNearlyPacks(t *testing.T) {
 	index, p := string(right[0].Data), string(right[1].Data)
 	for _, name := range []string{"a", "pack-1", " ", "a b", ".pack", "a.pack", "a.idx", "....", ".gitt", ".hidden", "\xff", strings.Repeat("a", 95)} {
 		wantObject(t, "the pack "+name, named(name, []byte(p), []byte(index)), o)
+		if path, is := odb.IndexPath("objects/pack/" + name + ".pack"); path != "objects/pack/"+name+".idx" || !is {
+			t.Errorf("the index of the pack %s: %q, %v", name, path, is)
+		}
 		wantIds(t, "the pack "+name, named(name, []byte(p), []byte(index)), idOf(o))
 	}
 	for _, x := range []struct{ pack, index string }{
@@ -191,6 +194,9 @@ func TestNearlyPacks(t *testing.T) {
 		{"objects/pack/a.PACK", "objects/pack/a.idx"}, {"objects/pack/a.PACK", "objects/pack/a.IDX"}, {"objects/pack/a.pack", "objects/pack/a.IDX"}, {"objects/pack/a.pack", "objects/pack/a"}, {"objects/pack/apack", "objects/pack/aidx"}, {"objects/pack/a.pack.x", "objects/pack/a.idx"}, {"objects/pack/a", "objects/pack/a.idx"},
 		{"objects/pack.pack", "objects/pack.idx"}, {"objects/Pack/a.pack", "objects/Pack/a.idx"}, {"objects/packa.pack", "objects/packa.idx"}, {"objects/pack/pack", "objects/pack/idx"}, {"objects/pack/a.pack/b", "objects/pack/a.idx"}, {"objects/pack/a.pack/b", "objects/pack/a.idx/b"},
 	} {
+		if path, is := odb.IndexPath(x.pack); is && path == x.index || !is && path != "" {
+			t.Errorf("%s: the index %q, %v", x.pack, path, is)
+		}
 		files := join([]api.File{file(x.pack, p), file(x.index, index)})
 		wantNoObject(t, x.pack+", "+x.index, files, idOf(o), api.ErrNone)
 		wantIds(t, x.pack+", "+x.index, files)

@@ -43,7 +43,7 @@ func openShelf(files []api.File) (*shelf, api.Errno) {
 	}
 	s := &shelf{files: files}
 	for _, f := range files {
-		indexPath, is := indexOf(f.Path)
+		indexPath, is := IndexPath(f.Path)
 		if !is {
 			continue
 		}
@@ -56,8 +56,8 @@ func openShelf(files []api.File) (*shelf, api.Errno) {
 	return s, api.OK
 }
 
-// indexOf answers the path of a pack file's index, and whether a path is one of a pack file.
-func indexOf(path string) (string, bool) {
+// IndexPath answers the path of a pack file's index, and whether a path is one of a pack file.
+func IndexPath(path string) (string, bool) {
 	rest, inFolder := strings.CutPrefix(path, packFolder)
 	name, ends := strings.CutSuffix(rest, packEnd)
 	if !inFolder || !ends || !names.Name(name) {

@@ -271,6 +271,9 @@ func wantStack(t *testing.T, what string, files []api.File, s stack) {
 	if list, e := refs.List(files); e != api.OK || !slices.Equal(list, s.refs()) {
 		t.Fatalf("List, %s: %v, error %d, wanted %v", what, list, e, s.refs())
 	}
+	if list, e := refs.AllNotes(files); e != api.OK || !slices.Equal(list, s.notes()) {
+		t.Fatalf("AllNotes, %s: %v, error %d, wanted %v", what, list, e, s.notes())
+	}
 	asked := map[string]int{"HEAD": 0, mainName: 0, "refs/none/none": 0, "": 0, "no name": 0}
 	for _, x := range s {
 		for _, r := range x.refs {
@@ -328,13 +331,14 @@ func wantNoStack(t *testing.T, what string, files []api.File) {
 	r, e2 := refs.Get(files, mainName)
 	notes, e3 := refs.Notes(files, mainName)
 	dropped, e4 := refs.Drop(files, 0)
-	for _, e := range []api.Errno{e1, e2, e3, e4} {
+	all, e5 := refs.AllNotes(files)
+	for _, e := range []api.Errno{e1, e2, e3, e4, e5} {
 		if e != api.ErrForm {
-			t.Errorf("%s: errors %d, %d, %d, %d", what, e1, e2, e3, e4)
+			t.Errorf("%s: errors %d, %d, %d, %d, %d", what, e1, e2, e3, e4, e5)
 			break
 		}
 	}
-	if len(list) != 0 || r != (api.Ref{}) || len(notes) != 0 || len(dropped) != 0 {
+	if len(list) != 0 || r != (api.Ref{}) || len(notes) != 0 || len(dropped) != 0 || len(all) != 0 {
 		t.Errorf("%s: something is beside ErrForm", what)
 	}
 	wantUnresolved(t, what, files, mainName, api.ErrForm)

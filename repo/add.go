@@ -9,12 +9,12 @@ import (
 
 // Add answers the files behind the index having taken a path as the worktree has it.
 func Add(files []api.File, path string, now int) ([]api.File, api.Errno) {
-	return change(files, func(r *repository) ([]txfile.Change, api.Errno) { return r.add(path, now) })
+	return change(files, func(r *Repository) ([]txfile.Change, api.Errno) { return r.add(path, now) })
 }
 
 // add answers the changes of Add.
-func (r *repository) add(path string, now int) ([]txfile.Change, api.Errno) {
-	file, there := r.file(path)
+func (r *Repository) add(path string, now int) ([]txfile.Change, api.Errno) {
+	file, there := r.File(path)
 	old, has := r.slot(path)
 	switch {
 	case now < 0 || now > maxTime:
@@ -23,10 +23,10 @@ func (r *repository) add(path string, now int) ([]txfile.Change, api.Errno) {
 		return nil, api.ErrNone
 	case !there:
 		return r.withSlots(nil, path, nil)
-	case crossing([]string{path}, pathsOf(r.slots)):
+	case crossing([]string{path}, pathsOf(r.Slots)):
 		return nil, api.ErrExists
 	}
-	list, ids, errno := odb.Put(r.files, []api.Object{{Kind: api.Blob, Data: file.Data}})
+	list, ids, errno := odb.Put(r.Files, []api.Object{{Kind: api.Blob, Data: file.Data}})
 	if errno != api.OK {
 		return nil, errno
 	}
@@ -38,8 +38,8 @@ func (r *repository) add(path string, now int) ([]txfile.Change, api.Errno) {
 }
 
 // withSlots puts the change by which the index has these slots of a path, and no others of it, behind list.
-func (r *repository) withSlots(list []txfile.Change, path string, slots []api.Slot) ([]txfile.Change, api.Errno) {
-	made, errno := index.Set(r.slots, path, slots)
+func (r *Repository) withSlots(list []txfile.Change, path string, slots []api.Slot) ([]txfile.Change, api.Errno) {
+	made, errno := index.Set(r.Slots, path, slots)
 	if errno != api.OK {
 		return nil, errno
 	}

@@ -15,50 +15,53 @@ import (
 	"codicil/txfile"
 )
 
+// SeqPath is the path of the file that is there while a sequence is under way.
+const SeqPath = "seq"
+
 const (
 	headName     = "HEAD"
 	branchFolder = "refs/heads/"
 	firstBranch  = "refs/heads/main"
 	indexPath    = "index"
-	seqPath      = "seq"
 	workFolder   = "work/"
 	maxWorkPath  = 150       // bytes of a path that comes into the worktree
 	maxTime      = 1<<32 - 1 // of a slot
 )
 
-// repository is what files say, as far as each command needs it.
-type repository struct {
-	files  []api.File
-	refs   []api.Ref
-	branch string
-	tip    api.Id     // all 0: there is none
-	slots  []api.Slot // of the index
+// Repository is what files say, as far as each command needs it. Its parts are for the layers above, too: who changes its
+// Files opens them anew, unless they have only got more objects.
+type Repository struct {
+	Files  []api.File
+	Refs   []api.Ref
+	Branch string
+	Tip    api.Id     // all 0: there is none
+	Slots  []api.Slot // of the index
 }
 
-// open answers the repository of files. It has one error for all that may be wrong with them.
-func open(files []api.File) (*repository, api.Errno) {
+// Open answers the repository of files. It has one error for all that may be wrong with them.
+func Open(files []api.File) (*Repository, api.Errno) {
 	list, errno := refs.List(files)
 	if errno != api.OK {
 		return nil, api.ErrForm
 	}
-	r := &repository{files: files, refs: list}
-	head, _ := r.ref(headName)
+	r := &Repository{Files: files, Refs: list}
+	head, _ := r.Ref(headName)
 	at, there := filelist.Find(files, indexPath)
 	if head.Target == "" || !there {
 		return nil, api.ErrForm
 	}
-	if r.slots, errno = index.Parse(files[at].Data); errno != api.OK {
+	if r.Slots, errno = index.Parse(files[at].Data); errno != api.OK {
 		return nil, api.ErrForm
 	}
-	r.branch = head.Target
-	tip, _ := r.ref(r.branch)
-	r.tip = tip.Id
+	r.Branch = head.Target
+	tip, _ := r.Ref(r.Branch)
+	r.Tip = tip.Id
 	return r, api.OK
 }
 
 // change answers the files behind a command, which answers its changes of what is opened.
-func change(files []api.File, command func(r *repository) ([]txfile.Change, api.Errno)) ([]api.File, api.Errno) {
-	r, errno := open(files)
+func change(files []api.File, command func(r *Repository) ([]txfile.Change, api.Errno)) ([]api.File, api.Errno) {
+	r, errno := Open(files)
 	if errno != api.OK {
 		return nil, errno
 	}
@@ -69,26 +72,26 @@ func change(files []api.File, command func(r *repository) ([]txfile.Change, api.
 	return odb.Made(files, list)
 }
 
-// ref answers the reference of a name, and whether it is there.
-func (r *repository) ref(name string) (api.Ref, bool) {
-	at, there := slices.BinarySearchFunc(r.refs, name, func(f api.Ref, name string) int { return strings.Compare(f.Name, name) })
+// Ref answers the reference of a name, and whether it is there.
+func (r *Repository) Ref(name string) (api.Ref, bool) {
+	at, there := slices.BinarySearchFunc(r.Refs, name, func(f api.Ref, name string) int { return strings.Compare(f.Name, name) })
 	if !there {
 		return api.Ref{}, false
 	}
-	return r.refs[at], true
+	return r.Refs[at], true
 }
 
-// hasTip answers whether the branch has a commit yet.
-func (r *repository) hasTip() bool { return r.tip != api.Id{} }
+// HasTip answers whether the branch has a commit yet.
+func (r *Repository) HasTip() bool { return r.Tip != api.Id{} }
 
 // busy answers whether a sequence is under way.
-func (r *repository) busy() bool {
-	_, is := filelist.Find(r.files, seqPath)
+func (r *Repository) busy() bool {
+	_, is := filelist.Find(r.Files, SeqPath)
 	return is
 }
 
 // slot answers the index's slot of a path with the least stage, and whether there is one.
-func (r *repository) slot(path string) (api.Slot, bool) { return slotOf(r.slots, path) }
+func (r *Repository) slot(path string) (api.Slot, bool) { return slotOf(r.Slots, path) }
 
 // slotOf answers of slots in order the one of a path with the least stage, and whether there is one.
 func slotOf(slots []api.Slot, path string) (api.Slot, bool) {
@@ -99,16 +102,16 @@ func slotOf(slots []api.Slot, path string) (api.Slot, bool) {
 	return slots[at], true
 }
 
-// tipSlots answers the tip's slots.
-func (r *repository) tipSlots() ([]api.Slot, api.Errno) {
-	if !r.hasTip() {
+// TipSlots answers the tip's slots.
+func (r *Repository) TipSlots() ([]api.Slot, api.Errno) {
+	if !r.HasTip() {
 		return nil, api.OK
 	}
-	return slotsAt(r.files, r.tip)
+	return SlotsAt(r.Files, r.Tip)
 }
 
-// slotsAt answers the slots of a commit.
-func slotsAt(files []api.File, id api.Id) ([]api.Slot, api.Errno) {
+// SlotsAt answers the slots of a commit.
+func SlotsAt(files []api.File, id api.Id) ([]api.Slot, api.Errno) {
 	commit, errno := base.Commit(files, id)
 	if errno != api.OK {
 		return nil, errno
@@ -116,19 +119,19 @@ func slotsAt(files []api.File, id api.Id) ([]api.Slot, api.Errno) {
 	return trees.Flatten(files, commit.Tree)
 }
 
-// file answers the worktree's file of a path, and whether there is one.
-func (r *repository) file(path string) (api.File, bool) {
-	at, there := filelist.Find(r.files, workFolder+path)
+// File answers the worktree's file of a path, and whether there is one.
+func (r *Repository) File(path string) (api.File, bool) {
+	at, there := filelist.Find(r.Files, workFolder+path)
 	if !there {
 		return api.File{}, false
 	}
-	return r.files[at], true
+	return r.Files[at], true
 }
 
-// clean answers whether the worktree has the file of a slot, with its blob's bytes. A file that is too long for a blob has
+// Clean answers whether the worktree has the file of a slot, with its blob's bytes. A file that is too long for a blob has
 // no id that a slot could have.
-func (r *repository) clean(s api.Slot) bool {
-	f, there := r.file(s.Path)
+func (r *Repository) Clean(s api.Slot) bool {
+	f, there := r.File(s.Path)
 	if !there {
 		return false
 	}
@@ -136,8 +139,8 @@ func (r *repository) clean(s api.Slot) bool {
 	return errno == api.OK && id == s.Id
 }
 
-// alike answers whether two slots are the same for a tree.
-func alike(a, b api.Slot) bool { return a.Mode == b.Mode && a.Id == b.Id }
+// Alike answers whether two slots are the same for a tree.
+func Alike(a, b api.Slot) bool { return a.Mode == b.Mode && a.Id == b.Id }
 
 // pathsOf answers the paths of slots.
 func pathsOf(slots []api.Slot) []string {

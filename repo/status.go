@@ -25,15 +25,15 @@ const (
 
 // Status answers the paths, rising, that aren't alike in the tip, the index and the worktree.
 func Status(files []api.File) ([]State, api.Errno) {
-	r, errno := open(files)
+	r, errno := Open(files)
 	if errno != api.OK {
 		return nil, errno
 	}
-	tip, errno := r.tipSlots()
+	tip, errno := r.TipSlots()
 	if errno != api.OK {
 		return nil, errno
 	}
-	paths := slices.Concat(pathsOf(tip), pathsOf(r.slots), r.workPaths())
+	paths := slices.Concat(pathsOf(tip), pathsOf(r.Slots), r.workPaths())
 	slices.Sort(paths)
 	var list []State
 	for _, path := range slices.Compact(paths) {
@@ -46,7 +46,7 @@ func Status(files []api.File) ([]State, api.Errno) {
 }
 
 // staged answers how a path stands in the index against the tip's slots.
-func (r *repository) staged(tip []api.Slot, path string) byte {
+func (r *Repository) staged(tip []api.Slot, path string) byte {
 	now, has := r.slot(path)
 	was, had := slotOf(tip, path)
 	switch {
@@ -56,22 +56,22 @@ func (r *repository) staged(tip []api.Slot, path string) byte {
 		return added
 	case had && !has:
 		return deleted
-	case !alike(now, was):
+	case !Alike(now, was):
 		return changed
 	}
 	return asItWas
 }
 
 // worked answers how a path stands in the worktree against the index.
-func (r *repository) worked(path string) byte {
+func (r *Repository) worked(path string) byte {
 	s, has := r.slot(path)
-	_, there := r.file(path)
+	_, there := r.File(path)
 	switch {
 	case there && !has:
 		return unknown
 	case has && !there:
 		return deleted
-	case has && !r.clean(s):
+	case has && !r.Clean(s):
 		return changed
 	}
 	return asItWas

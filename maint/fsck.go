@@ -73,23 +73,16 @@ func (c *check) places() {
 	for i, f := range c.files {
 		_, isPack := odb.IndexPath(f.Path)
 		_, isIndex := indices[f.Path]
-		if strings.HasPrefix(f.Path, objectFolder) && !isPack && !isIndex {
-			c.tell(f.Path, looseError(c.files[i:i+1]))
+		if strings.HasPrefix(f.Path, objectFolder) && !isPack && !isIndex && !isPlace(c.files[i:i+1]) {
+			c.tell(f.Path, api.ErrName)
 		}
 	}
 }
 
-// looseError answers what is wrong with the one file that there is, as that of an object.
-func looseError(file []api.File) api.Errno {
+// isPlace answers whether the one file that there is has the place of an id. Whether it has that object is asked with all others.
+func isPlace(file []api.File) bool {
 	ids, errno := loose.Ids(file)
-	switch {
-	case errno != api.OK:
-		return errno
-	case len(ids) == 0:
-		return api.ErrName
-	}
-	_, errno = loose.Get(file, ids[0])
-	return errno
+	return errno == api.OK && len(ids) == 1
 }
 
 // packError answers what is wrong with a pack file and its index.

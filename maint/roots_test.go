@@ -8,6 +8,7 @@ import (
 
 	"codicil/api"
 	"codicil/maint"
+	"codicil/reftable"
 )
 
 // P26.1: the roots, of each place where ids stand, each once, rising, none of all 0.
@@ -48,6 +49,20 @@ func TestRoots(t *testing.T) {
 	files = having(files, "work/x", bytes.Repeat([]byte{5}, 32))
 	files = stored(files, blob("nobody's"))
 	want("nothing else", 3, 4, 7, 9, 20, 21, 22, 31)
+}
+
+// P26.1: both ids of each note, also where no other note and no reference has them.
+func TestRootsOfNotes(t *testing.T) {
+	notes := []api.Note{{Name: "refs/heads/x", Index: 2, Old: api.Id{4}, New: api.Id{3}, Who: me(1)}, {Name: "refs/heads/x", Index: 1, Old: api.Id{2}, New: api.Id{1}, Who: me(1)}, {Name: "refs/heads/y", Index: 1, New: api.Id{5}, Who: me(1)}}
+	p, e := reftable.Write([]api.Ref{{Name: "HEAD", Target: mainName}}, notes, 1, 2)
+	if e != api.OK {
+		t.Fatalf("reftable.Write: error %d", e)
+	}
+	name := "000000000001-000000000002.ref"
+	files := indexed(having(having(nil, "reftable/"+name, p), "reftable/tables.list", []byte(name+"\n")))
+	if got, e := wantRoots(t, "notes", files); e != api.OK || !slices.Equal(got, []api.Id{{1}, {2}, {3}, {4}, {5}}) {
+		t.Errorf("%x, error %d", got, e)
+	}
 }
 
 // P26.1: of files that are no repository, or whose seq isn't in form, Roots and Gc have ErrForm; Reach has it of files that

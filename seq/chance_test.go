@@ -251,3 +251,46 @@ func TestByChance(t *testing.T) {
 		}
 	}
 }
+
+// P1: files of which some have other bytes, are gone, or stand elsewhere: each command ends, and answers what the chapter's
+// words do.
+func TestSpoiled(t *testing.T) {
+	r := rand.New(rand.NewSource(26))
+	files, from, ours, theirs := twoSides("a 1\n2\n|k same", "a 1\nours\n|k same", "a 1\ntheirs\n|c new|k same")
+	files, onto := grown(files, "onto", ids(from), "a 1\n2\n", "d new", "k same")
+	files = referring(files, api.Ref{Name: topName, Id: onto})
+	stopped, _, _ := plainPick(files, ids(theirs, onto), me(12))
+	settled, _ := stored(working(indexed(stopped, slots("a both", "c new", "k same")), "a both"), blob("both"))
+	merged := patched(settled, map[string][]byte{"seq": seqText("merge", ours, theirs)})
+	packed := files
+	all, _ := odb.Ids(files)
+	if changes, e := odb.Repack(files, all); e == api.OK {
+		packed, _ = odb.Made(files, changes)
+	}
+	ends := map[api.Errno]int{}
+	for range 250 {
+		in := [][]api.File{files, stopped, settled, merged, packed}[r.Intn(5)]
+		for range 1 + r.Intn(2) {
+			f := in[r.Intn(len(in))]
+			switch r.Intn(4) {
+			case 0, 1:
+				p := slices.Clone(f.Data)
+				if len(p) > 0 {
+					p[r.Intn(len(p))] ^= 1 << r.Intn(8)
+				}
+				in = patched(in, map[string][]byte{f.Path: p})
+			case 2:
+				in = without(in, f.Path)
+			case 3:
+				in = having(in, f.Path, string(in[r.Intn(len(in))].Data))
+			}
+		}
+		for _, c := range append(commands(theirs), merge(onto), pick(theirs, onto), rebase(onto)) {
+			_, _, e := wantPlain(t, "spoiled", in, c)
+			ends[e]++
+		}
+	}
+	if len(ends) < 7 {
+		t.Errorf("too little was tried: %v", ends)
+	}
+}

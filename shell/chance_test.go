@@ -82,3 +82,25 @@ func TestByChance(t *testing.T) {
 		t.Log(ends)
 	}
 }
+
+// P1: disks whose files have other bytes, or of which some are gone: each command ends, and answers what the calls do.
+func TestSpoiled(t *testing.T) {
+	r := rand.New(rand.NewSource(32))
+	s, _ := grown(t)
+	files := filesOf(t, s)
+	wantText(t, "spoiled", s, told("pick b", 95), "stopped")
+	stopped := filesOf(t, s)
+	for range 60 {
+		in := append([]api.File{}, [][]api.File{files, stopped}[r.Intn(2)]...)
+		at := r.Intn(len(in))
+		if p := append([]byte{}, in[at].Data...); len(p) > 0 && r.Intn(3) > 0 {
+			p[r.Intn(len(p))] ^= 1 << r.Intn(8)
+			in[at].Data = p
+		} else {
+			in = append(in[:at], in[at+1:]...)
+		}
+		for _, text := range all() {
+			wantDone(t, "spoiled", opened(t, holding(t, in)), told(text+"|x", 99))
+		}
+	}
+}

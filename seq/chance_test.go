@@ -205,7 +205,7 @@ func (x *run) took(t *testing.T, c command, made []api.File) {
 func TestByChance(t *testing.T) {
 	r := rand.New(rand.NewSource(25))
 	ends := map[string]int{}
-	for range 40 {
+	for range 28 {
 		x := &run{r: r, files: begun()}
 		for range 8 {
 			x.work()
@@ -268,7 +268,7 @@ func TestSpoiled(t *testing.T) {
 		packed, _ = odb.Made(files, changes)
 	}
 	ends := map[api.Errno]int{}
-	for range 250 {
+	for range 150 {
 		in := [][]api.File{files, stopped, settled, merged, packed}[r.Intn(5)]
 		for range 1 + r.Intn(2) {
 			f := in[r.Intn(len(in))]

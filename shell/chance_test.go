@@ -45,7 +45,7 @@ func anySteps(r *rand.Rand, files []api.File, now int) []step {
 func TestByChance(t *testing.T) {
 	r := rand.New(rand.NewSource(31))
 	ends := map[string]int{}
-	for round := range 20 {
+	for round := range 12 {
 		s, _ := grown(t)
 		var d *fs.Disk
 		for i := range 80 {
